@@ -1,0 +1,1 @@
+"""Sealchain: papers with seals, and by which chain they hold."""
