@@ -1,4 +1,4 @@
-"""Holds the package's files to the rules of the language that can be seen in the code (L1 to L28)."""
+"""Holds the package to those rules of the language that are plainly seen in the code; not to all of them."""
 
 import ast
 import builtins
