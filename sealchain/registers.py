@@ -1,17 +1,17 @@
 """Registers: rows numbered by their places, and which of them are known by a day."""
 
 from sealchain.errors import NoRegister
-from sealchain.rows import MOST_ROWS, day_of, is_row, people_in
+from sealchain.rows import MOST_ROWS, day_of, is_row, part_of, people_in, word_of
 
 MOST_PEOPLE = 20
 
 
 def root_offices(rows):
-    return [row[1][1] for row in rows if row[1][0] == "root"]
+    return [part_of(row, "office") for row in rows if word_of(row) == "root"]
 
 
 def is_second_root(ahead, row):
-    return row[1][0] == "root" and row[1][1] in root_offices(ahead)
+    return word_of(row) == "root" and part_of(row, "office") in root_offices(ahead)
 
 
 def count_people(rows):
@@ -42,6 +42,24 @@ def heard(book, known):
     return [number for number, row in enumerate(book) if row[0] <= known]
 
 
+def is_known(book, known, number):
+    # Rows speak of numbers that no row has, and lists may hold any: these are as if heard never.
+    return 0 <= number < len(book) and book[number][0] <= known
+
+
+def rank(book, number):
+    return (day_of(book[number]), number)
+
+
+def is_ahead(book, one, other):
+    return rank(book, one) < rank(book, other)
+
+
 def in_order(book, known):
     dated = [number for number in heard(book, known) if day_of(book[number]) is not None]
-    return sorted(dated, key=lambda number: (day_of(book[number]), number))
+    return sorted(dated, key=lambda number: rank(book, number))
+
+
+def roots(book, known):
+    known_rows = [book[number] for number in heard(book, known)]
+    return dict([(part_of(row, "office"), row) for row in known_rows if word_of(row) == "root"])

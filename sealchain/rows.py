@@ -9,7 +9,7 @@ MOST_FURTHER = 9
 
 RULES = ("open", "first", "last")
 
-# The parts behind the first word of each deed, told once: is_row and people_in both go by them.
+# The parts behind the first word of each deed, told once: all that asks for a part goes by them.
 PARTS = {
     "root": ("office", "matters", "further", "rule"),
     "named": ("day", "office", "person"),
@@ -98,7 +98,7 @@ def is_timely(row):
     day = day_of(row)
     if day is None:
         return True
-    if row[1][0] == "chosen" and row[1][5] < day:
+    if word_of(row) == "chosen" and part_of(row, "since") < day:
         return False
     return day <= row[0]
 
@@ -109,13 +109,21 @@ def is_row(thing):
     return is_day(thing[0]) and is_deed(thing[1]) and is_timely(thing)
 
 
+def word_of(row):
+    return row[1][0]
+
+
+def part_of(row, part):
+    return row[1][1 + PARTS[word_of(row)].index(part)]
+
+
 def day_of(row):
-    if row[1][0] == "root":
+    if word_of(row) == "root":
         return None
-    return row[1][1]
+    return part_of(row, "day")
 
 
 def people_in(row):
-    parts = PARTS[row[1][0]]
+    parts = PARTS[word_of(row)]
     names = [value for part, value in zip(parts, row[1][1:]) if part in PERSON_PARTS and value is not None]
     return sorted(set(names))

@@ -58,3 +58,53 @@ def with_part(row, place, value):
     """The row with another value at a place of its deed."""
     heard, deed = row
     return (heard, deed[:place] + (value,) + deed[place + 1:])
+
+
+def done(day, word, *parts, heard=None):
+    """A row of a deed of that day, heard on it where nothing else is told."""
+    return (day if heard is None else heard, (word, day) + parts)
+
+
+def root(office, matters=7, further=3, rule="open", heard=0):
+    return (heard, ("root", office, matters, further, rule))
+
+
+def leave(day, by, person, matters=1, stretch=(0, None), further=0, heard=None):
+    return done(day, "leave", by, person, matters, stretch, further, heard=heard)
+
+
+def paper(day, by, matters=1, stretch=(0, None), whom=None, pieces=("let",), heard=None):
+    return done(day, "paper", by, matters, stretch, whom, pieces, heard=heard)
+
+
+def like(day, by, of, matters=1, stretch=(0, None), whom=None, changes=(), heard=None):
+    return done(day, "like", by, matters, stretch, whom, of, changes, heard=heard)
+
+
+def copied(day, by, of, heard=None):
+    return done(day, "copy", by, of, heard=heard)
+
+
+def call(day, by, of, heard=None):
+    return done(day, "call", by, of, heard=heard)
+
+
+KING = root("king")
+ANN = done(0, "named", "king", "ann")
+
+# A chain of every kind of link: the office, two leaves, a paper, a copy and a copy of the copy.
+LONG = [
+    KING, ANN, leave(2, "ann", "bob", 3, (0, 20), 2), leave(3, "bob", "eve", 1, (3, 10), 1),
+    paper(4, "eve", 1, (4, 8)), copied(6, "dan", 4), copied(7, "eve", 5),
+]
+
+
+def check_own(case, ask, told):
+    """That a list is told, and asked again is told the same, whatever the asker did with the first one."""
+    first = ask()
+    case.assertIsInstance(first, list)
+    case.assertEqual(first, told)
+    first.reverse()
+    first.append("more")
+    case.assertEqual(ask(), told)
+    case.assertEqual(first, told[::-1] + ["more"])

@@ -30,6 +30,14 @@ NOT_USED = """register mro elements open input version_info with_traceback add_n
 NO_WORDS = """type typing typing_extensions enum Enum IntEnum StrEnum Flag IntFlag Generic Protocol ABC ABCMeta
     namedtuple NamedTuple TypedDict TYPE_CHECKING abstractmethod""".split()
 SPECIAL_METHODS = ("__init__", "__eq__", "__repr__", "__str__", "__len__")
+WALKED_NAMES = ("zip", "enumerate", "reversed", "range")
+WALKED_METHODS = ("items", "keys", "values")
+WALKERS = ("list", "tuple", "dict", "sorted", "sum", "any", "all", "enumerate", "zip", "min", "max")
+ASKED = (ast.In, ast.NotIn, ast.Eq, ast.NotEq)
+KEYWORDS = {
+    "sorted": ("key", "reverse"), "min": ("key", "default"), "max": ("key", "default"), "sum": ("start",),
+    "enumerate": ("start",), "zip": ("strict",),
+}
 
 
 def tree_of(path):
@@ -38,6 +46,15 @@ def tree_of(path):
 
 def parts_of(tree, kind):
     return [node for node in ast.walk(tree) if isinstance(node, kind)]
+
+
+def parents_in(tree):
+    return {child: node for node in ast.walk(tree) for child in ast.iter_child_nodes(node)}
+
+
+def called(node):
+    """The name of what is called by itself, None of anything else."""
+    return node.func.id if isinstance(node, ast.Call) and isinstance(node.func, ast.Name) else None
 
 
 def bound_in(function):
@@ -166,6 +183,42 @@ class TestForms(unittest.TestCase):
                 self.assertIsInstance(node, (ast.ImportFrom, ast.FunctionDef, ast.ClassDef, ast.Assign), path)
             names = top_names(tree) + imported(tree)
             self.assertEqual(len(names), len(set(names)), path)
+
+
+class TestCalls(unittest.TestCase):
+    def test_what_is_walked_is_walked_on_the_spot(self):
+        for path in FILES:
+            tree = tree_of(path)
+            parents = parents_in(tree)
+            for node in parts_of(tree, ast.Call):
+                method = node.func.attr if isinstance(node.func, ast.Attribute) else None
+                if called(node) in WALKED_NAMES or method in WALKED_METHODS:
+                    above = parents[node]
+                    walked = isinstance(above, (ast.For, ast.comprehension)) and above.iter == node
+                    handed = called(above) in WALKERS and above.args[0] == node
+                    self.assertTrue(walked or handed, (path, node.lineno))
+
+    def test_sets_are_asked_on_the_spot(self):
+        for path in FILES:
+            tree = tree_of(path)
+            parents = parents_in(tree)
+            for node in parts_of(tree, (ast.Call, ast.Set)):
+                if called(node) in ("set", "frozenset") or isinstance(node, ast.Set):
+                    above = parents[node]
+                    while isinstance(above, ast.BinOp):
+                        above = parents[above]
+                    listed = called(above) in ("sorted", "len") and above.keywords == []
+                    asked = isinstance(above, ast.Compare) and isinstance(above.ops[0], ASKED)
+                    self.assertTrue(listed or asked, (path, node.lineno))
+
+    def test_keywords(self):
+        for path in FILES:
+            tree = tree_of(path)
+            for node in parts_of(tree, ast.Call):
+                name = called(node)
+                if name not in top_names(tree) + imported(tree):
+                    for each in node.keywords:
+                        self.assertIn(each.arg, KEYWORDS.get(name, ()), (path, node.lineno))
 
 
 class TestNames(unittest.TestCase):
