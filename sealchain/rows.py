@@ -123,7 +123,10 @@ def day_of(row):
     return part_of(row, "day")
 
 
+def parts_in(row):
+    return list(zip(PARTS[word_of(row)], row[1][1:]))
+
+
 def people_in(row):
-    parts = PARTS[word_of(row)]
-    names = [value for part, value in zip(parts, row[1][1:]) if part in PERSON_PARTS and value is not None]
+    names = [value for part, value in parts_in(row) if part in PERSON_PARTS and value is not None]
     return sorted(set(names))

@@ -33,6 +33,9 @@ SPECIAL_METHODS = ("__init__", "__eq__", "__repr__", "__str__", "__len__")
 WALKED_NAMES = ("zip", "enumerate", "reversed", "range")
 WALKED_METHODS = ("items", "keys", "values")
 WALKERS = ("list", "tuple", "dict", "sorted", "sum", "any", "all", "enumerate", "zip", "min", "max")
+CHANGERS = ("append", "clear", "extend", "insert", "pop", "remove", "reverse", "setdefault", "update")
+NO_VALUES = CHANGERS + ("items", "keys", "values", "sort", "args", "encode", "format")
+KINDS = ("int", "str", "bool", "list", "tuple", "dict")
 ASKED = (ast.In, ast.NotIn, ast.Eq, ast.NotEq)
 KEYWORDS = {
     "sorted": ("key", "reverse"), "min": ("key", "default"), "max": ("key", "default"), "sum": ("start",),
@@ -185,7 +188,64 @@ class TestForms(unittest.TestCase):
             self.assertEqual(len(names), len(set(names)), path)
 
 
+class TestKept(unittest.TestCase):
+    def test_lists_and_dicts_of_the_top_are_only_read(self):
+        kept = [node.targets[0].id for path in FILES for node in tree_of(path).body
+                if isinstance(node, ast.Assign) and isinstance(node.value, (ast.List, ast.Dict))]
+        for path in FILES:
+            tree = tree_of(path)
+            parents = parents_in(tree)
+            for node in parts_of(tree, ast.Name):
+                if node.id in kept and isinstance(node.ctx, ast.Load):
+                    above = parents[node]
+                    indexed = isinstance(above, ast.Subscript) and isinstance(above.ctx, ast.Load)
+                    asked = isinstance(above, ast.Compare) and isinstance(above.ops[0], (ast.In, ast.NotIn))
+                    self.assertTrue(indexed or asked, (path, node.lineno))
+
+    def test_what_a_loop_walks_is_not_changed_in_it(self):
+        for path in FILES:
+            for loop in parts_of(tree_of(path), ast.For):
+                walked = [node.id for node in parts_of(loop.iter, ast.Name)]
+                for node in [each for step in loop.body for each in ast.walk(step)]:
+                    if isinstance(node, ast.Attribute) and node.attr in CHANGERS and isinstance(node.value, ast.Name):
+                        self.assertNotIn(node.value.id, walked, (path, node.lineno))
+                    if isinstance(node, ast.Subscript) and isinstance(node.ctx, ast.Store):
+                        self.assertNotIn(getattr(node.value, "id", None), walked, (path, node.lineno))
+
+    def test_methods_and_values_of_objects(self):
+        classes = [each for path in FILES for each in parts_of(tree_of(path), ast.ClassDef)]
+        methods = [node.name for each in classes for node in parts_of(each, ast.FunctionDef)]
+        values = [node.attr for path in FILES for node in parts_of(tree_of(path), ast.Attribute)
+                  if isinstance(node.ctx, ast.Store)]
+        self.assertEqual(set(methods) & set(values), set())
+        self.assertEqual(set(values) & set(NO_VALUES), set())
+        self.assertLessEqual({name for name in methods if name.startswith("_")}, set(SPECIAL_METHODS))
+
+    def test_errors_are_made_on_the_spot(self):
+        for path in FILES:
+            for node in parts_of(tree_of(path), ast.Raise):
+                self.assertIsNotNone(called(node.exc), (path, node.lineno))
+
+    def test_numbers_and_texts(self):
+        for path in FILES:
+            tree = tree_of(path)
+            for node in parts_of(tree, ast.Constant):
+                if isinstance(node.value, str):
+                    self.assertNotIn("%", node.value, (path, node.lineno))
+            for node in parts_of(tree, ast.BinOp):
+                self.assertNotIsInstance(node.op, ast.Pow, (path, node.lineno))
+            self.assertEqual(re.findall(r"\\[^nt\\'\"]", path.read_text()), [], path)
+
+
 class TestCalls(unittest.TestCase):
+    def test_isinstance(self):
+        for path in FILES:
+            for node in parts_of(tree_of(path), ast.Call):
+                if called(node) == "isinstance":
+                    kinds = node.args[1].elts if isinstance(node.args[1], ast.Tuple) else [node.args[1]]
+                    for each in kinds:
+                        self.assertIn(each.id, KINDS, (path, node.lineno))
+
     def test_what_is_walked_is_walked_on_the_spot(self):
         for path in FILES:
             tree = tree_of(path)
